@@ -1,0 +1,1 @@
+"""Rebuiltby: what rebuilding files shows about who can be trusted."""
