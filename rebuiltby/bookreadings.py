@@ -3,9 +3,19 @@
 from rebuiltby.errors import InvalidText
 from rebuiltby.kinds import is_name, is_names, is_set
 
-# The kinds of lines, in the order in which they stand in a text, and the number of their words.
+# The kinds of the lines of a book, in the order in which they stand in a text.
 KINDS = ("source", "party", "unlike", "build")
-MANY_WORDS = {"source": 6, "party": 3, "unlike": 3, "build": 6}
+# What the words of each kind of line are, those of logs too; the first word is the kind itself.
+FORMS = {
+    "source": ("kind", "name", "name", "manner", "set", "set"),
+    "party": ("kind", "name", "weight"),
+    "unlike": ("kind", "name", "name"),
+    "build": ("kind", "name", "compiler", "name", "parts", "name"),
+    "weight": ("kind", "name", "weight"),
+    "claim": ("kind", "name", "name"),
+    "budget": ("kind", "number"),
+    "watch": ("kind", "number", "number"),
+}
 DIGITS = "0123456789"
 MOST_DIGITS = 60
 
@@ -36,16 +46,20 @@ def build_read(text, *, line=0):
 
 def book_read(text):
     """Return what the text writes; it is of the form of a book, but may be none."""
-    lines = text.split("\n") if text else []
+    return lines_read(text.split("\n") if text else [], 0)
+
+
+def lines_read(lines, first):
+    """Return what the lines of a book write; first is the index that an error tells of the first one."""
     rows = ([], [], [], [])
     place = 0
     for at, line in enumerate(lines):
         # Neither a kind that stands earlier nor an unknown word may begin a line from here on.
         word = line.split(" ")[0]
         if word not in KINDS[place:]:
-            raise InvalidText(at, 0)
+            raise InvalidText(first + at, 0)
         place = KINDS.index(word)
-        rows[place].append(line_read(word, line, at))
+        rows[place].append(line_read(word, line, first + at))
     return tuple([tuple(row) for row in rows])
 
 
@@ -63,28 +77,32 @@ def line_read(kind, text, line):
 def words_of(kind, text, line):
     """Return the words of the text, a line of this kind; raise InvalidText if it is none."""
     words = text.split(" ")
+    many = len(FORMS[kind])
     for field in range(len(words)):
-        if field >= MANY_WORDS[kind] or not can_stand(kind, words, field):
+        if field >= many or not can_stand(kind, words, field):
             raise InvalidText(line, field)
-    if len(words) < MANY_WORDS[kind]:
+    if len(words) < many:
         raise InvalidText(line, len(words))
     return words
 
 
 def can_stand(kind, words, field):
     """Tell whether the word of this field can stand in a line of this kind, behind those before it."""
+    form = FORMS[kind][field]
     word = words[field]
-    if field == 0:
+    if form == "kind":
         return word == kind
-    if kind == "source" and field == 3:
+    if form == "manner":
         return word in ("steady", "loose")
-    if kind == "source" and field > 3:
+    if form == "set":
         return is_set(names_in(word))
-    if kind == "party" and field == 2:
+    if form == "weight":
         return is_weight(word)
-    if kind == "build" and field == 2:
+    if form == "number":
+        return is_count(word)
+    if form == "compiler":
         return word == "-" or is_name(word)
-    if kind == "build" and field == 4:
+    if form == "parts":
         return word == "-" or words[2] != "-" and is_names(names_in(word))
     return is_name(word)
 
@@ -99,3 +117,8 @@ def is_weight(word):
     if not 1 <= len(word) <= MOST_DIGITS or word[0] == "0":
         return False
     return all([sign in DIGITS for sign in word])
+
+
+def is_count(word):
+    """Tell whether the word writes a number, with at most sixty digits."""
+    return word == "0" or is_weight(word)

@@ -1,7 +1,7 @@
 """The least weights of parties that must be bad: of a book, and if a claim is wrong or right."""
 
 from rebuiltby.closing import clashes_with, reasons_of
-from rebuiltby.helper import need_name, need_source
+from rebuiltby.helper import names_of, need_name, need_source
 
 
 def base_of(book):
@@ -56,4 +56,4 @@ def party_sets(book):
 
 def others_of(book, parties):
     """Return the set of the parties of the book that are not among these."""
-    return tuple([name for name, _ in book[1] if name not in parties])
+    return tuple([name for name in names_of(book[1]) if name not in parties])

@@ -1,6 +1,6 @@
 """What trusted parties show: facts, clashes and classes."""
 
-from rebuiltby.helper import ascending, need_facts, need_parties
+from rebuiltby.helper import ascending, names_of, need_facts, need_parties
 
 
 def facts_of(book, trusted, *, supposed=()):
@@ -24,12 +24,7 @@ def is_calm(book, trusted, *, supposed=()):
 def classes_of(book, trusted, *, supposed=()):
     """Return the set of the sets of sources that some file joins by the facts that the rules give."""
     check_given(book, trusted, supposed)
-    links = links_in(reasons_of(book, trusted, supposed))
-    names = [source[0] for source in book[0]]
-    return ascending([
-        tuple([other for other in names if other == name or (name, other) in links])
-        for name in names
-    ])
+    return classes_by(book, reasons_of(book, trusted, supposed))
 
 
 def check_given(book, trusted, supposed):
@@ -115,6 +110,17 @@ def links_in(facts):
                 if one != other:
                     links[(one, other)] = file
     return links
+
+
+def classes_by(book, facts):
+    """Return the set of the sets of sources that some file joins by all facts that the rules give."""
+    links = links_in(facts)
+    return ascending([joined_by(book, links, source[0]) for source in book[0]])
+
+
+def joined_by(book, links, name):
+    """Return the set of the sources to which these links join a source, itself too."""
+    return tuple([other for other in names_of(book[0]) if other == name or (name, other) in links])
 
 
 def clashes_with(book, trusted, facts):

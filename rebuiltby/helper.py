@@ -1,7 +1,7 @@
 """What several modules need: orders, names that are reached, and the checks of parameters."""
 
 from rebuiltby.errors import NotUsable
-from rebuiltby.kinds import is_fact, is_name, is_rising, is_set
+from rebuiltby.kinds import is_fact, is_name, is_number, is_rising, is_set
 
 
 def merged(left, right):
@@ -44,19 +44,30 @@ def reached(uses, start):
     return found
 
 
+def names_of(rows):
+    """Return the names of sources or parties, in their order."""
+    return tuple([row[0] for row in rows])
+
+
 def has_source(book, thing):
     """Tell whether any value is the name of a source of the book."""
-    return thing in [source[0] for source in book[0]]
+    return thing in names_of(book[0])
 
 
 def has_party(book, thing):
     """Tell whether any value is the name of a party of the book."""
-    return thing in [party[0] for party in book[1]]
+    return thing in names_of(book[1])
 
 
 def need_name(word, thing):
     """Raise NotUsable unless the thing is a name."""
     if not is_name(thing):
+        raise NotUsable(word, -1)
+
+
+def need_number(word, thing):
+    """Raise NotUsable unless the thing is a number."""
+    if not is_number(thing):
         raise NotUsable(word, -1)
 
 

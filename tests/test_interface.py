@@ -41,7 +41,23 @@ FUNCTIONS = {
         'steps_to': 'book, trusted, file, source, *, supposed=()',
         'steps_to_clash': 'book, trusted, *, supposed=()',
     },
+    'stepchecker': {'lets_steps': 'book, thing, *, supposed=()'},
+    'tablechecker': {'lets_table': 'book, trusted, thing, *, supposed=()'},
     'claimnumbers': {'base_of': 'book', 'wrong_of': 'book, file, source', 'right_of': 'book, file, source'},
+    'standings': {'standing_of': 'book, file, source'},
+    'judging': {
+        'verdict': 'book, file, source, budget', 'sure_facts': 'book, budget', 'suspects': 'book, budget',
+        'cleared': 'book, budget',
+    },
+    'orderkinds': {'orders': 'book', 'is_decided': 'book, party, compiler, source, parts'},
+    'ordering': {'plain_answer': 'book, party, compiler, source, parts', 'answered': 'book, *orders'},
+    'rounds': {
+        'after_rounds': 'book, n', 'full_book': 'book', 'rounds_to': 'book, file, source, budget',
+        'sure_of': 'book, file, source',
+    },
+    'comparing': {'are_alike': 'book, other', 'difference': 'book, other'},
+    'eventtexts': {'event_line': 'event', 'log_lines': 'log'},
+    'eventreadings': {'read_event': 'text', 'read_log': 'lines'},
 }
 CLASSES = {
     'errors': {
@@ -53,7 +69,11 @@ CLASSES = {
         'Book': 'sources=(), parties=(), unlike=(), builds=()', 'Weighted': 'sources, parties, unlike, builds, *weights',
         'Renamed': 'sources, parties, unlike, builds, *, files=()',
     },
+    'standings': {'Standing': 'right, wrong'},
+    'watches': {'Watch': 'book, *, budget=0'},
+    'desk': {'Desk': 'book'},
 }
+# For each class its methods, properties and values, and the parameters of those that are called by name.
 METHODS = {
     'Book': (
         '__init__', 'sources', 'parties', 'unlike', 'builds', 'form', 'files', '__getitem__', '__contains__', '__len__',
@@ -61,7 +81,33 @@ METHODS = {
     ),
     'Weighted': ('__init__', 'told'),
     'Renamed': ('__init__', 'told'),
+    'Standing': ('__init__', 'base', '__call__', '__neg__', '__add__', '__radd__', '__le__', '__eq__', '__str__', 'open_at'),
+    'Watch': (
+        '__init__', 'MOST', 'BUILDS', 'book_now', 'budget_now', 'claims_now', 'add_build', 'add_source', 'add_unlike',
+        'set_weight', 'add_claim', 'set_budget', 'go', '__getitem__', '__setitem__', '__contains__', '__iter__', '__len__',
+        '__eq__', '__str__', 'verdicts_now', 'standing_now', 'changes', 'alarms', 'suspects_now', 'cleared_now',
+        'next_orders', 'barred', 'table', 'tried', 'undo', 'do_all', 'tally', 'log',
+    ),
+    'Desk': ('__init__', 'say', 'tally'),
 }
+PARAMETERS = {
+    'Book': {'without': 'self, k', 'read': 'text', 'plain': '*names', '__call__': 'self, file'},
+    'Standing': {'__call__': 'self, budget', 'open_at': 'n'},
+    'Watch': {
+        'add_build': 'self, build', 'add_source': 'self, source', 'add_unlike': 'self, one, other',
+        'set_weight': 'self, party, weight', 'add_claim': 'self, file, source', 'set_budget': 'self, k', 'go': 'self, event',
+        'verdicts_now': 'self', 'standing_now': 'self, file, source', 'changes': 'self, k', 'alarms': 'self',
+        'suspects_now': 'self', 'cleared_now': 'self', 'next_orders': 'self', 'barred': 'self, event', 'table': 'self',
+        'tried': 'self, events', 'undo': 'self', 'do_all': 'self, events, *, keep=False', 'tally': 'self', 'log': 'self',
+    },
+    'Desk': {'say': 'self, row', 'tally': 'self'},
+}
+
+
+def class_of(name):
+    """The class of this name."""
+    module, = [module for module in CLASSES if name in CLASSES[module]]
+    return getattr(importlib.import_module(f'rebuiltby.{module}'), name)
 
 
 class InterfaceTest(unittest.TestCase):
@@ -81,17 +127,20 @@ class InterfaceTest(unittest.TestCase):
                 self.assertEqual(str(inspect.signature(function)), f'({told})', name)
 
     def test_parameters_of_classes(self):
-        for module, rows in CLASSES.items():
+        for rows in CLASSES.values():
             for name, told in rows.items():
                 if told:
-                    kind = getattr(importlib.import_module(f'rebuiltby.{module}'), name)
-                    self.assertEqual(str(inspect.signature(kind)), f'({told})', name)
+                    self.assertEqual(str(inspect.signature(class_of(name))), f'({told})', name)
 
     def test_methods_stand_in_the_class_itself(self):
-        module = importlib.import_module('rebuiltby.bookclasses')
         for name, methods in METHODS.items():
             for method in methods:
-                self.assertIn(method, vars(getattr(module, name)))
+                self.assertIn(method, vars(class_of(name)))
+
+    def test_parameters_of_methods(self):
+        for name, methods in PARAMETERS.items():
+            for method, told in methods.items():
+                self.assertEqual(str(inspect.signature(getattr(class_of(name), method))), f'({told})', (name, method))
 
     def test_examples_of_the_readme(self):
         done = doctest.testfile(str(FOLDER.parent / 'README.md'), module_relative=False)
