@@ -1,6 +1,7 @@
 """The least weights of parties that must be bad: of a book, and if a claim is wrong or right."""
 
 from rebuiltby.closing import clashes_with, reasons_of
+from rebuiltby.errors import NotUsable
 from rebuiltby.helper import names_of, need_name, need_source
 
 
@@ -25,6 +26,17 @@ def check_claim(book, file, source):
     """Check the file and the source of a claim."""
     need_name("file", file)
     need_source("source", book, source)
+
+
+def terms_of(book, what, file, source):
+    """Return the supposed and the unshown facts of the number that what names."""
+    if what not in ("base", "wrong", "right"):
+        raise NotUsable("what", -1)
+    if what == "base":
+        return (), ()
+    check_claim(book, file, source)
+    claim = (file, source)
+    return ((), (claim,)) if what == "wrong" else ((claim,), ())
 
 
 def least_weight(book, supposed, unshown):

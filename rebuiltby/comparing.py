@@ -14,11 +14,10 @@ def are_alike(book, other):
 
 def difference(book, other):
     """Return a difference of the two books, None if they show the same."""
-    if not is_accepted(other) or other[:3] != book[:3]:
-        raise NotUsable("other", -1)
+    check_other(book, other)
     # Whatever one book shows and the other one does not, some build, or two builds that part, is
     # the first in a chain of steps to go beyond the other book; what is needed for this is enough.
-    cases = {case: True for case in cases_of(book) + cases_of(other)}
+    cases = {case: True for case in cases_of(book, other) + cases_of(other, book)}
     for trusted, supposed in cases:
         found = difference_at(book, other, trusted, supposed)
         if found is not None:
@@ -26,16 +25,25 @@ def difference(book, other):
     return None
 
 
-def cases_of(book):
-    """Return the trusted parties and the facts that each rule of the book needs, as a list."""
+def check_other(book, other):
+    """Check that any value is a book with the same sources, parties and pairs told unlike."""
+    if not is_accepted(other) or other[:3] != book[:3]:
+        raise NotUsable("other", -1)
+
+
+def cases_of(book, other):
+    """Return the trusted parties and the facts that builds need which the other book lacks, as a list."""
+    known = {build: True for build in other[3]}
     cases = []
     for build in book[3]:
-        cases = cases + [((build[0],), premises) for premises in premises_for(book, build)]
+        if build not in known:
+            cases = cases + [((build[0],), premises) for premises in premises_for(book, build)]
     steady = [source[0] for source in book[0] if source[3]]
     for k, m in parting_builds(book):
-        one, other = book[3][k], book[3][m]
-        parties = ascending([one[0], other[0]])
-        cases = cases + [(parties, ascending([(one[1], name), (other[1], name)])) for name in steady]
+        one, two = book[3][k], book[3][m]
+        if one not in known or two not in known:
+            parties = ascending([one[0], two[0]])
+            cases = cases + [(parties, ascending([(one[1], name), (two[1], name)])) for name in steady]
     return cases
 
 

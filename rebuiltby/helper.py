@@ -1,4 +1,4 @@
-"""What several modules need: orders, names that are reached, and the checks of parameters."""
+"""What several modules need: orders, names that are reached, sources of files, and the checks of parameters."""
 
 from rebuiltby.errors import NotUsable
 from rebuiltby.kinds import is_fact, is_name, is_number, is_rising, is_set
@@ -59,6 +59,11 @@ def has_party(book, thing):
     return thing in names_of(book[1])
 
 
+def sources_in(facts, file):
+    """Return the sources for which the file is right, in the order of the facts."""
+    return tuple([source for shown, source in facts if shown == file])
+
+
 def need_name(word, thing):
     """Raise NotUsable unless the thing is a name."""
     if not is_name(thing):
@@ -83,15 +88,25 @@ def need_party(word, book, thing):
         raise NotUsable(word, -1)
 
 
+def is_parties(book, thing):
+    """Tell whether any value is a set of names of parties of the book."""
+    return is_set(thing) and all([has_party(book, name) for name in thing])
+
+
+def is_facts(book, thing):
+    """Tell whether any value is a set of facts of sources of the book."""
+    if not isinstance(thing, tuple) or not all([is_fact(fact) for fact in thing]):
+        return False
+    return is_rising(thing) and all([has_source(book, fact[1]) for fact in thing])
+
+
 def need_parties(word, book, thing):
     """Raise NotUsable unless the thing is a set of names of parties of the book."""
-    if not is_set(thing) or not all([has_party(book, name) for name in thing]):
+    if not is_parties(book, thing):
         raise NotUsable(word, -1)
 
 
 def need_facts(word, book, thing):
     """Raise NotUsable unless the thing is a set of facts of sources of the book."""
-    if not isinstance(thing, tuple) or not all([is_fact(fact) for fact in thing]):
-        raise NotUsable(word, -1)
-    if not is_rising(thing) or not all([has_source(book, fact[1]) for fact in thing]):
+    if not is_facts(book, thing):
         raise NotUsable(word, -1)

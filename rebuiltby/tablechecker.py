@@ -24,6 +24,14 @@ def lets_table(book, trusted, thing, *, supposed=()):
     return len(thing)
 
 
+def check_table(book, trusted, thing, supposed):
+    """Check the table of another paper: at tells what is wrong with the table itself."""
+    try:
+        lets_table(book, trusted, thing, supposed=supposed)
+    except InvalidPaper as error:
+        raise InvalidPaper("table", (error.word, error.at)) from None
+
+
 def check_facts(book, table):
     """Check that the facts ascend, and that their sources are the book's."""
     for n, fact in enumerate(table):

@@ -166,3 +166,22 @@ def random_facts(seed, book, most=3):
     names = source_names(book)
     facts = {(dice.choice(('f0', 'f1', 'f2', 'f3', 'g')), dice.choice(names)) for _ in range(dice.randint(0, most))}
     return tuple(sorted(facts))
+
+
+def mutated(dice, thing, names):
+    """The thing with something in it changed, left out or put in; names are what may stand in it."""
+    if type(thing) is not tuple or dice.random() < 0.1:
+        odd = (None, True, (), -1, 0, 1, 2, [thing], (thing,), dice.choice(names), dice.choice(names), dice.choice(names))
+        if type(thing) is int:
+            return dice.choice((thing + 1, thing - 1, thing + 1, thing - 1, dice.choice(odd)))
+        return dice.choice(odd)
+    k = dice.randrange(len(thing) + 1)
+    way = dice.random()
+    if k == len(thing) or way < 0.08:
+        return thing[:k] + (dice.choice((*thing, (), dice.choice(names), dice.randrange(3))),) + thing[k:]
+    if way < 0.2:
+        return thing[:k] + thing[k + 1:]
+    if way < 0.28:
+        m = dice.randrange(len(thing))
+        return tuple(thing[{k: m, m: k}.get(n, n)] for n in range(len(thing)))
+    return thing[:k] + (mutated(dice, thing[k], names),) + thing[k + 1:]

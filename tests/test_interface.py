@@ -55,7 +55,15 @@ FUNCTIONS = {
         'after_rounds': 'book, n', 'full_book': 'book', 'rounds_to': 'book, file, source, budget',
         'sure_of': 'book, file, source',
     },
+    'leastsets': {
+        'bad_sets': 'book', 'wrong_sets': 'book, file, source', 'right_sets': 'book, file, source',
+        'supports': 'book, file, source', 'clash_sets': 'book',
+    },
+    'numberpapers': {'number_paper': 'book, what, *, file=None, source=None'},
+    'numberchecker': {'lets_number': 'book, what, thing, *, file=None, source=None'},
     'comparing': {'are_alike': 'book, other', 'difference': 'book, other'},
+    'differencechecker': {'lets_difference': 'book, other, thing'},
+    'leaning': {'needless_builds': 'book', 'lean_book': 'book'},
     'eventtexts': {'event_line': 'event', 'log_lines': 'log'},
     'eventreadings': {'read_event': 'text', 'read_log': 'lines'},
 }
@@ -69,6 +77,7 @@ CLASSES = {
         'Book': 'sources=(), parties=(), unlike=(), builds=()', 'Weighted': 'sources, parties, unlike, builds, *weights',
         'Renamed': 'sources, parties, unlike, builds, *, files=()',
     },
+    'knowing': {'Knowledge': 'book, *trusted'},
     'standings': {'Standing': 'right, wrong'},
     'watches': {'Watch': 'book, *, budget=0'},
     'desk': {'Desk': 'book'},
@@ -81,6 +90,10 @@ METHODS = {
     ),
     'Weighted': ('__init__', 'told'),
     'Renamed': ('__init__', 'told'),
+    'Knowledge': (
+        '__init__', 'trusted', 'facts', 'clashes', '__contains__', '__len__', '__bool__', '__call__', '__add__', '__sub__',
+        '__and__', '__or__', '__le__', '__ge__', '__eq__', 'of_all', 'nothing',
+    ),
     'Standing': ('__init__', 'base', '__call__', '__neg__', '__add__', '__radd__', '__le__', '__eq__', '__str__', 'open_at'),
     'Watch': (
         '__init__', 'MOST', 'BUILDS', 'book_now', 'budget_now', 'claims_now', 'add_build', 'add_source', 'add_unlike',
@@ -92,6 +105,7 @@ METHODS = {
 }
 PARAMETERS = {
     'Book': {'without': 'self, k', 'read': 'text', 'plain': '*names', '__call__': 'self, file'},
+    'Knowledge': {'__call__': 'self, file', 'of_all': 'book', 'nothing': 'book'},
     'Standing': {'__call__': 'self, budget', 'open_at': 'n'},
     'Watch': {
         'add_build': 'self, build', 'add_source': 'self, source', 'add_unlike': 'self, one, other',
