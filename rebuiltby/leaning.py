@@ -11,10 +11,11 @@ def needless_builds(book):
 
 def lean_book(book):
     """Return what remains when needless builds are left out, from the last build to the first."""
+    lean = book
     for k in reversed(range(len(book[3]))):
-        if is_needless(book, k):
-            book = without_build(book, k)
-    return book
+        if is_needless(lean, k):
+            lean = without_build(lean, k)
+    return lean
 
 
 def is_needless(book, k):

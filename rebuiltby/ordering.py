@@ -4,7 +4,8 @@ from rebuiltby.bookparts import files_of
 from rebuiltby.closing import joined_by, links_in
 from rebuiltby.errors import NotCalm, NotUsable
 from rebuiltby.helper import names_of
-from rebuiltby.orderkinds import facts_by_all, file_decided, is_fit, orders_by
+from rebuiltby.kinds import is_row
+from rebuiltby.orderkinds import facts_by_all, file_decided, is_fit, is_order
 from rebuiltby.stepsmaking import steps_to_clash
 
 
@@ -12,7 +13,7 @@ def plain_answer(book, party, compiler, source, parts):
     """Return the plain answer of the order of these four."""
     facts = facts_if_open(book)
     order = (party, compiler, source, parts)
-    if order not in orders_by(book, facts):
+    if not is_order(book, facts, order):
         raise NotUsable("order", -1)
     return file_answered(book, facts, order)
 
@@ -21,7 +22,7 @@ def answered(book, *orders):
     """Return the book with these orders, each with its plain answer in the book with those before it."""
     facts = facts_if_open(book)
     for k, order in enumerate(orders):
-        if order not in orders_by(book, facts):
+        if not is_row(order, 4) or not is_order(book, facts, order):
             raise NotUsable("order", k)
         book, facts = with_answer(book, facts, order)
     return book
@@ -54,12 +55,16 @@ def fresh_file(files):
 
 def with_answer(book, facts, order):
     """Return the book with the order and its plain answer, and the facts that all parties then show."""
+    return with_file(book, facts, (*order, file_answered(book, facts, order)))
+
+
+def with_file(book, facts, build):
+    """Return the book with a further build, and the facts that all parties then show."""
     sources, parties, unlike, builds = book
-    file = file_answered(book, facts, order)
     links = links_in(facts)
     more = {fact: facts[fact] for fact in facts}
     # Nothing else comes: a file that decides the order is right for these sources already, and a
     # fresh one is no compiler and no part of a build.
-    for name in joined_by(book, links, order[2]):
-        more[(file, name)] = True
-    return (sources, parties, unlike, (*builds, (*order, file))), more
+    for name in joined_by(book, links, build[2]):
+        more[(build[4], name)] = True
+    return (sources, parties, unlike, (*builds, build)), more

@@ -1,8 +1,9 @@
 """Orders: the builds that can be asked for, and what decides them."""
 
-from rebuiltby.closing import classes_by, clashes_with, reasons_of
+from rebuiltby.closing import classes_by, clashes_with, premises_of, reasons_of
 from rebuiltby.errors import NotUsable
-from rebuiltby.helper import ascending, names_of, reached
+from rebuiltby.helper import ascending, has_party, has_source, names_of, reached
+from rebuiltby.kinds import is_name, is_names
 
 
 def orders(book):
@@ -14,7 +15,7 @@ def is_decided(book, party, compiler, source, parts):
     """Tell whether the order of these four is decided."""
     facts = facts_by_all(book)
     order = (party, compiler, source, parts)
-    if order not in orders_by(book, facts):
+    if not is_order(book, facts, order):
         raise NotUsable("order", -1)
     return file_decided(book, facts, order) is not None
 
@@ -35,6 +36,17 @@ def orders_by(book, facts):
         for party in names_of(book[1])
     ]
     return ascending([order for order in found if order not in begun])
+
+
+def is_order(book, facts, order):
+    """Tell whether four elements, whatever they are, are an order; the facts are those by all parties."""
+    party, compiler, source, parts = order
+    if not has_party(book, party) or not is_name(compiler) or not has_source(book, source) or not is_names(parts):
+        return False
+    sources = {row[0]: row for row in book[0]}
+    if len(parts) != len(sources[source][4]) or not premises_of(order, sources, facts):
+        return False
+    return not any([build[:4] == order for build in book[3]])
 
 
 def compilers_for(book, facts, language):

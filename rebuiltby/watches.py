@@ -71,10 +71,10 @@ class Watch:
     def go(self, event):
         """Apply the event; return the number of events before it."""
         self._operations += 1
-        return self._apply(event)
+        return self.follow(event)
 
-    def _apply(self, event):
-        """Apply the event, as a part of an operation that is counted already."""
+    def follow(self, event):
+        """Apply the event without counting an operation; return the number of events before it."""
         state = self._state_with(self._states[-1], len(self._events), event)
         self._events.append(event)
         self._states.append(state)
@@ -201,7 +201,7 @@ class Watch:
         if not keep:
             self.tried(events)
         for event in events:
-            self._apply(event)
+            self.follow(event)
         return len(events)
 
     def tally(self):

@@ -23,6 +23,16 @@ class ErrorsTest(BookCase):
                 self.assertEqual(getattr(errors, name).__bases__, (getattr(errors, family),))
                 self.assertEqual(getattr(errors, name).__module__, 'rebuiltby.errors')
 
+    def test_no_other_family(self):
+        for family, rows in FAMILIES.items():
+            for name in rows:
+                error = getattr(errors, name)
+                self.assertEqual(error.__mro__, (
+                    error, getattr(errors, family), errors.RebuiltError, ValueError, Exception, BaseException, object))
+        told = ['RebuiltError', *FAMILIES, *[name for rows in FAMILIES.values() for name in rows]]
+        defined = [name for name, thing in vars(errors).items() if isinstance(thing, type)]
+        self.assertEqual(sorted(defined), sorted(told))
+
     def test_fields_are_kept_as_they_are(self):
         for rows in FAMILIES.values():
             for name, fields in rows.items():

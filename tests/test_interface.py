@@ -42,6 +42,7 @@ FUNCTIONS = {
         'steps_to_clash': 'book, trusted, *, supposed=()',
     },
     'stepchecker': {'lets_steps': 'book, thing, *, supposed=()'},
+    'tablemaking': {'table_of': 'book, trusted, *, supposed=()'},
     'tablechecker': {'lets_table': 'book, trusted, thing, *, supposed=()'},
     'claimnumbers': {'base_of': 'book', 'wrong_of': 'book, file, source', 'right_of': 'book, file, source'},
     'standings': {'standing_of': 'book, file, source'},
@@ -61,10 +62,14 @@ FUNCTIONS = {
     },
     'numberpapers': {'number_paper': 'book, what, *, file=None, source=None'},
     'numberchecker': {'lets_number': 'book, what, thing, *, file=None, source=None'},
+    'unseen': {'unseen_sets': 'book, file, source'},
+    'planning': {'plan_to': 'book, file, source, budget'},
+    'planchecker': {'lets_plan': 'book, file, source, budget, thing'},
     'comparing': {'are_alike': 'book, other', 'difference': 'book, other'},
     'differencechecker': {'lets_difference': 'book, other, thing'},
     'leaning': {'needless_builds': 'book', 'lean_book': 'book'},
     'eventtexts': {'event_line': 'event', 'log_lines': 'log'},
+    'replaying': {'is_log': 'thing', 'replayed': 'log'},
     'eventreadings': {'read_event': 'text', 'read_log': 'lines'},
 }
 CLASSES = {
@@ -78,7 +83,9 @@ CLASSES = {
         'Renamed': 'sources, parties, unlike, builds, *, files=()',
     },
     'knowing': {'Knowledge': 'book, *trusted'},
+    'worlds': {'World': 'book, bad, table'},
     'standings': {'Standing': 'right, wrong'},
+    'unseen': {'Unseen': 'book, bad, file, source'},
     'watches': {'Watch': 'book, *, budget=0'},
     'desk': {'Desk': 'book'},
 }
@@ -94,6 +101,10 @@ METHODS = {
         '__init__', 'trusted', 'facts', 'clashes', '__contains__', '__len__', '__bool__', '__call__', '__add__', '__sub__',
         '__and__', '__or__', '__le__', '__ge__', '__eq__', 'of_all', 'nothing',
     ),
+    'World': (
+        '__init__', 'bad', 'book_now', 'table_now', '__len__', '__getitem__', '__iter__', 'give', 'is_right', 'copy', 'tried',
+    ),
+    'Unseen': ('__init__', 'bad', 'book_now', 'table_now', '__len__', '__getitem__', '__iter__', 'give', 'is_right'),
     'Standing': ('__init__', 'base', '__call__', '__neg__', '__add__', '__radd__', '__le__', '__eq__', '__str__', 'open_at'),
     'Watch': (
         '__init__', 'MOST', 'BUILDS', 'book_now', 'budget_now', 'claims_now', 'add_build', 'add_source', 'add_unlike',
@@ -106,6 +117,10 @@ METHODS = {
 PARAMETERS = {
     'Book': {'without': 'self, k', 'read': 'text', 'plain': '*names', '__call__': 'self, file'},
     'Knowledge': {'__call__': 'self, file', 'of_all': 'book', 'nothing': 'book'},
+    'World': {
+        'give': 'self, party, compiler, source, parts', 'is_right': 'self, file, source', 'copy': 'self', 'tried': 'self, rows',
+    },
+    'Unseen': {'give': 'self, party, compiler, source, parts', 'is_right': 'self, file, source'},
     'Standing': {'__call__': 'self, budget', 'open_at': 'n'},
     'Watch': {
         'add_build': 'self, build', 'add_source': 'self, source', 'add_unlike': 'self, one, other',

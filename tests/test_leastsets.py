@@ -7,7 +7,7 @@ from rebuiltby.bookclasses import Book
 from rebuiltby.bookparts import files_of
 from rebuiltby.claimnumbers import base_of, right_of, wrong_of
 from rebuiltby.leastsets import bad_sets, clash_sets, right_sets, supports, wrong_sets
-from tests.books import ALL, ALONE, BOOK, EMPTY, LINKED, NO_NAMES, PARTIES, SOURCES, SPLIT, BookCase
+from tests.books import ALL, BOOK, EMPTY, LINKED, NO_NAMES, PARTIES, SOURCES, SPLIT, BookCase
 from tests.books import party_names, plain_clashes, plain_facts, random_book, source_names, subsets
 
 FILES = ('f0', 'f1', 'f2', 'g')
